@@ -66,13 +66,7 @@ func (r *Reader) SkipLines() {
 }
 
 // Misfit tells that a token may not stand where it does.
-func (r *Reader) Misfit(token api.Token) {
-	if token.Kind == api.TokEnd {
-		r.Fail(token, api.ErrShort)
-	} else {
-		r.Fail(token, api.ErrWord)
-	}
-}
+func (r *Reader) Misfit(token api.Token) { r.Fail(token, Misfit(token)) }
 
 // Fail tells what is wrong with a token.
 func (r *Reader) Fail(token api.Token, wrong api.Errno) {
@@ -87,3 +81,11 @@ func (r *Reader) Fault() *api.Fault { return r.fault }
 
 // Ends tells whether a token ends a line.
 func Ends(token api.Token) bool { return token.Kind == api.TokLine || token.Kind == api.TokEnd }
+
+// Misfit is what is wrong with a token that may not stand where it does.
+func Misfit(token api.Token) api.Errno {
+	if token.Kind == api.TokEnd {
+		return api.ErrShort
+	}
+	return api.ErrWord
+}
