@@ -56,6 +56,22 @@ func TestQ1Q2Examples(t *testing.T) {
 	}
 }
 
+// Two states that differ by the last action alone, and two that differ by the last proposition alone.
+func TestQ1MostActionsAndProps(t *testing.T) {
+	lines := []string{"states 4"}
+	for i := range api.MaxActions {
+		a := string(rune('a' + i))
+		if i < api.MaxActions-1 {
+			lines = append(lines, "edge 0 "+a+" 3", "edge 1 "+a+" 3", "mark p"+a+" 2 3")
+		} else {
+			lines = append(lines, "edge 0 "+a+" 3", "mark p"+a+" 2")
+		}
+	}
+	if got := bisim.Classes(system(t, lines...)); !slices.Equal(got, []int{0, 1, 2, 3}) {
+		t.Errorf("Q1: %v", got)
+	}
+}
+
 func TestNotRight(t *testing.T) {
 	for i, s := range []api.System{{}, {States: -1}, {States: 25}, {States: 1, Actions: []string{"a"}}, {States: 1, Edges: []api.Edge{{}}}, {States: 1, Props: []api.Prop{{Name: "p", States: []int{1}}}}} {
 		quotient, classes := bisim.Quotient(s)

@@ -176,7 +176,7 @@ func TestT2Faults(t *testing.T) {
 		err  api.Errno
 	}{
 		{"", 0, api.ErrShort}, {"\n \n", 3, api.ErrShort}, {"states", 6, api.ErrShort}, {"states 0", 7, api.ErrRange}, {"states 25", 7, api.ErrRange},
-		{"states 2 3", 9, api.ErrWord}, {"states\n2", 6, api.ErrWord}, {"states x", 7, api.ErrWord}, {"state 2", 0, api.ErrWord}, {"2", 0, api.ErrWord}, {"States 2", 0, api.ErrWord},
+		{"states 2 3", 9, api.ErrWord}, {"states 2 edge 0 a 1", 9, api.ErrWord}, {"states 2 mark p", 9, api.ErrWord}, {"states\n2", 6, api.ErrWord}, {"states x", 7, api.ErrWord}, {"state 2", 0, api.ErrWord}, {"2", 0, api.ErrWord}, {"States 2", 0, api.ErrWord},
 		{"edge 0 a 0", 0, api.ErrWord}, {"states 2\nstates 2", 9, api.ErrWord}, {"states 2\nfoo", 9, api.ErrWord}, {"states 2\n0", 9, api.ErrWord}, {"states 2\nEdge 0 a 0", 9, api.ErrWord},
 		{"states 2\nedge", 13, api.ErrShort}, {"states 2\nedge 0", 15, api.ErrShort}, {"states 2\nedge 0 a", 17, api.ErrShort}, {"states 2\nmark", 13, api.ErrShort},
 		{"states 2\nedge\n", 13, api.ErrWord}, {"states 2\nedge a", 14, api.ErrWord}, {"states 2\nedge 0 0", 16, api.ErrWord}, {"states 2\nedge 0 A 1", 16, api.ErrWord}, {"states 2\nedge 0 - 1", 16, api.ErrWord},

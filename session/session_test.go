@@ -50,7 +50,7 @@ func TestX2Words(t *testing.T) {
 		"", "error 23", "   ", "error 23", "al", "error 23", "alll", "error 23", "All", "error 23", "all\t", "error 23", "\tall", "error 23", "all\n", "error 23", "page;", "error 23", "\xff", "error 23",
 		"  all", "states 0", "all   ", "states 0", "all x", "error 1", "all 0", "error 1", "all \t", "error 1", "classes 1", "error 1",
 		"holds", "error 1", "holds x", "error 1", "holds 0 0", "error 1", "holds 00", "error 1", "holds 01", "error 1", "holds -1", "error 1", "holds +0", "error 1", "holds 12345", "error 1", "holds 9999", "error 1", "holds 0x", "error 1", "holds \xff", "error 1", "holds ٣", "error 1", "holds   0  ", "yes yes yes",
-		"board", "error 1", "board 1 1", "error 1", "board 1", "error 1", "page 0", "error 1", "solve 0", "error 1", "lift 0", "error 1", "dual 0", "error 1", "judge 0", "error 1", "play", "error 1", "play 0", "error 1", "play 0 x", "error 1",
+		"board", "error 1", "board 0 0", "error 1", "board x", "error 1", "board 1", "error 1", "page 0", "error 1", "solve 0", "error 1", "lift 0", "error 1", "dual 0", "error 1", "judge 0", "error 1", "play", "error 1", "play 0", "error 1", "play 0 x", "error 1",
 		"play 0 0"+strings.Repeat(" 1", 65), "error 1", "play 0 0"+strings.Repeat(" 1", 64), "error 22", "holds 18446744073709551616", "error 1")
 }
 

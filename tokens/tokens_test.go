@@ -45,7 +45,7 @@ func TestReads(t *testing.T) {
 func TestFirstFaultStays(t *testing.T) {
 	for text, want := range map[string]api.Fault{
 		"": {At: 0, Err: api.ErrShort}, "a": {At: 1, Err: api.ErrShort}, "1": {At: 0, Err: api.ErrWord}, "b 1": {At: 0, Err: api.ErrWord}, "a\n": {At: 1, Err: api.ErrWord},
-		"a 1 2": {At: 4, Err: api.ErrWord}, "a 1\n7": {At: 4, Err: api.ErrMove},
+		"1 2 3 4 5 6 7 8 9": {At: 0, Err: api.ErrWord}, "a 1 2": {At: 4, Err: api.ErrWord}, "a 1\n7": {At: 4, Err: api.ErrMove},
 	} {
 		r := reader(t, text)
 		r.Word(api.TokName, "a")
