@@ -179,36 +179,54 @@ func byWords(s api.System, f []api.Node, ranks []int, k api.Key) (owner, priorit
 	return owner, 0, to
 }
 
+// allPairs are the pairs that can be come to, in the order in which they are met.
+func allPairs(s api.System, f []api.Node, state int) []api.Key {
+	ranks := rank.Ranks(f)
+	met := []api.Key{key(state, len(f)-1)}
+	for i := 0; i < len(met); i++ {
+		_, _, to := byWords(s, f, ranks, met[i])
+		for _, k := range to {
+			if !slices.Contains(met, k) {
+				met = append(met, k)
+			}
+		}
+	}
+	return met
+}
+
 func TestFollowsTable(t *testing.T) {
-	for i := range 400 {
+	limits := 0
+	for i := range 3000 {
 		source := samples.New(i)
-		s, f := source.System(6), source.Positive(25)
-		b, wrong := build.Build(lts.New(s), f, source.Below(s.States))
+		s, f := source.System(2+i%22), source.Positive(20+i%40)
+		state := source.Below(s.States)
+		b, wrong := build.Build(lts.New(s), f, state)
+		pairs := allPairs(s, f, state)
+		if (wrong == api.ErrLimit) != (len(pairs) > api.MaxPositions) {
+			t.Fatalf("U1: of %d pairs: %d", len(pairs), wrong)
+		}
 		if wrong == api.ErrLimit {
+			limits++
 			continue
 		}
-		if _, wrong := game.Right(b.Game); wrong != api.OK || len(b.Keys) != len(b.Game.Owner) || b.Keys[0].Node != len(f)-1 {
-			t.Fatalf("U1: not right: %v", b)
+		if _, wrong := game.Right(b.Game); wrong != api.OK || !slices.Equal(b.Keys, pairs) {
+			t.Fatalf("U1: not right, or of other pairs than %v: %v", pairs, b)
 		}
 		ranks := rank.Ranks(f)
-		met := []api.Key{b.Keys[0]}
 		for at, k := range b.Keys {
 			owner, priority, to := byWords(s, f, ranks, k)
 			var moves []int
 			for _, k := range to {
-				if !slices.Contains(met, k) {
-					met = append(met, k)
-				}
-				moves = append(moves, slices.Index(met, k))
+				moves = append(moves, slices.Index(pairs, k))
 			}
 			slices.Sort(moves)
 			if b.Game.Owner[at] != owner || b.Game.Priority[at] != priority || !slices.Equal(b.Game.Moves[at], moves) || build.Place(b, k) != at {
 				t.Fatalf("U1: position %d of %v: owner %d, priority %d, moves %v", at, b, owner, priority, moves)
 			}
 		}
-		if !slices.Equal(met, b.Keys) {
-			t.Fatalf("U1: the order of %v", b.Keys)
-		}
+	}
+	if limits < 5 {
+		t.Errorf("only %d games were beyond the limit", limits)
 	}
 }
 
